@@ -1,0 +1,1 @@
+"""Containers that inject dependencies: import from the files of this package, as README.md shows."""
