@@ -184,6 +184,57 @@ class LanguageTest(unittest.TestCase):
                         elif isinstance(node, ast.Name) and not isinstance(node.ctx, ast.Load):
                             self.assertNotIn(node.id, outer, path)
 
+    def test_what_stands_beside_is(self):
+        for path in FILES:
+            for node in ast.walk(tree_of(path)):
+                if isinstance(node, ast.Compare):
+                    for sign, value in zip(node.ops, node.comparators):
+                        if isinstance(sign, (ast.Is, ast.IsNot)):
+                            self.assertIsInstance(value, ast.Constant, (path, node.lineno))
+                            self.assertTrue(value.value is None or isinstance(value.value, bool), (path, node.lineno))
+
+    def test_errors_are_created_where_they_are_raised(self):
+        for path in FILES:
+            for node in ast.walk(tree_of(path)):
+                if isinstance(node, ast.Raise):
+                    self.assertIsInstance(node.exc, ast.Call, (path, node.lineno))
+                    self.assertRegex(node.exc.func.id, r"\A[A-Z]")
+                elif isinstance(node, ast.ExceptHandler):
+                    self.assertNotIn(node.type.id, ("Exception", "ValueError", "LookupError", "IndexError"), (path, node.lineno))
+
+    def test_beside_classes_that_compare(self):
+        for path in FILES:
+            for node in ast.walk(tree_of(path)):
+                self.assertNotIsInstance(node, (ast.GeneratorExp, ast.Set, ast.SetComp, ast.Yield), (path, getattr(node, "lineno", 0)))
+                if isinstance(node, ast.Attribute):
+                    self.assertNotEqual(node.attr, "sort", (path, node.lineno))
+                if isinstance(node, ast.FunctionDef) and node.name == "__eq__":
+                    self.assertEqual([line.__class__ for line in node.body], [ast.Return], (path, node.lineno))
+
+    def test_attributes_and_properties(self):
+        assigned, read, methods, properties = {}, {}, {}, {}
+        for path in FILES:
+            for node in ast.walk(tree_of(path)):
+                if isinstance(node, ast.Attribute):
+                    (read if isinstance(node.ctx, ast.Load) else assigned)[node.attr] = (path, node.lineno)
+                    if not isinstance(node.ctx, ast.Load):
+                        self.assertIsInstance(node.value, ast.Name, (path, node.lineno))
+                elif isinstance(node, ast.ClassDef):
+                    for part in node.body:
+                        if isinstance(part, ast.FunctionDef):
+                            (properties if part.decorator_list else methods)[part.name] = (path, part.lineno)
+                            for decorator in part.decorator_list:
+                                self.assertEqual(decorator.id, "property", (path, part.lineno))
+        for name, place in properties.items():
+            self.assertNotIn(name, assigned, place)
+            self.assertNotIn(name, methods, place)
+            self.assertNotIn(name, METHODS, place)
+        for name, place in assigned.items():
+            self.assertNotIn(name, methods, place)
+        known = [*assigned, *methods, *properties, *METHODS]
+        for name, place in read.items():
+            self.assertIn(name, known, place)
+
 
 if __name__ == "__main__":
     unittest.main()

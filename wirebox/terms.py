@@ -161,14 +161,23 @@ def term_text(term):
     return shape_text(term)
 
 
-def key_text(key):
-    """The text of a key: that of its term, and # and the tag if there is one."""
+def need_key(key):
+    """Refuse what is no key."""
     if not is_key(key):
         raise BadKey(key)
-    term, tag = key
+
+
+def tagged_text(shape, tag):
+    """The text of a shape, and # and the tag if there is one."""
     if len(tag) == 0:
-        return shape_text(term)
-    return shape_text(term) + "#" + tag
+        return shape_text(shape)
+    return shape_text(shape) + "#" + tag
+
+
+def key_text(key):
+    """The text of a key."""
+    need_key(key)
+    return tagged_text(key[0], key[1])
 
 
 def read_term(text):
