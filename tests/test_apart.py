@@ -95,7 +95,8 @@ class ApartTest(unittest.TestCase):
         self.differ(layers_of([top], parent=box_of(bind("a"))), layers_of([top]))
         self.same(layers_of([top], parent=box_of(bind("a", "f[a]"))), layers_of([top], parent=box_of(bind("b", "f[S]"))))
         self.differ(
-            layers_of([top], parent=layers_of(parent=box_of(bind("a")))), layers_of([top], parent=layers_of(parent=box_of(bind("a", "b")))),
+            layers_of([top], parent=layers_of(parent=box_of(bind("a")))),
+            layers_of([top], parent=layers_of(parent=box_of(bind("a", "b")))),
         )
 
     def test_differences_in_ambiguity_alone(self):

@@ -148,7 +148,8 @@ class PartsTest(unittest.TestCase):
 
     def test_equality(self):
         others = {
-            "name": "two", "pattern": read_pattern("map[T, S]"), "tag": "", "level": "request", "wants": WANTS[:5], "has_end": False,
+            "name": "two", "pattern": read_pattern("map[T, S]"), "tag": "", "level": "request", "wants": WANTS[:5],
+            "has_end": False,
             "failing": (), "bad_end": (7,),
         }
         for kind in (Binding, Wrapper):
@@ -179,7 +180,8 @@ class ForTest(unittest.TestCase):
             ("list[T]", "list[a]", True), ("list[T]", "list[list[a]]", True), ("list[T]", "list", False), ("list[T]", "a", False),
             ("list[T]", "list[a]#x", False), ("list[T]#x", "list[a]#x", True), ("list[T]#x", "list[a]", False),
             ("list[T]#x", "list[a]#y", False), ("T", "pair[a, b]", True), ("pair[T, T]", "pair[a, a]", True),
-            ("pair[T, T]", "pair[a, b]", False), ("pair[T, T]", "pair[f[a], f[a]]", True), ("pair[T, T]", "pair[f[a], f[b]]", False),
+            ("pair[T, T]", "pair[a, b]", False), ("pair[T, T]", "pair[f[a], f[a]]", True),
+            ("pair[T, T]", "pair[f[a], f[b]]", False),
             ("a", "a", True), ("a", "b", False), ("a", "a[b]", False),
         ):
             for part in (bind("one", text), wrap("one", text)):

@@ -14,7 +14,8 @@ from wirebox.papers import is_paper, paper
 from wirebox.terms import read_key
 
 TERMS = universe((("a", 0), ("b", 0), ("f", 1)), (), 2) + [
-    ("p", (one, other)) for one in universe((("a", 0), ("b", 0)), (), 1) for other in universe((("a", 0), ("b", 0), ("f", 1)), (), 2)
+    ("p", (one, other)) for one in universe((("a", 0), ("b", 0)), (), 1) for other in universe((("a", 0), ("b", 0), ("f", 1)), (),
+        2)
 ]
 KEYS = [(term, tag) for term in TERMS for tag in ("", "x")]
 
@@ -73,20 +74,23 @@ class ChooseTest(unittest.TestCase):
         any_one = bind("any", "T")
         key = read_key("pair[user, user]")
         for parts, told in (
-            ((right, left), ("left", "right")), ((any_one, right, both, left), ("both", "left", "right")), ((both, right), ("both", "right")),
+            ((right, left), ("left", "right")), ((any_one, right, both, left), ("both", "left", "right")),
+            ((both, right), ("both", "right")),
         ):
             self.assertEqual(field_of(self, Ambiguous, choose, box_of(*parts), key), told)
             self.assertEqual(field_of(self, Ambiguous, choose, layers_of([bind("exact", "pair[user, user]")], parts), key), told)
             self.assertEqual(field_of(self, Ambiguous, choose, layers_of(parent=box_of(*parts)), key), told)
             self.assertEqual(self.chosen(box_of(*parts, bind("exact", "pair[user, user]")), "pair[user, user]"), "exact")
-            self.assertEqual(self.chosen(layers_of(parts, [any_one] if any_one not in parts else [bind("z", "T")]), "pair[user, user]"),
+            self.assertEqual(self.chosen(layers_of(parts, [any_one] if any_one not in parts else [bind("z", "T")]),
+                "pair[user, user]"),
                              "any" if any_one not in parts else "z")
         container = box_of(any_one, right, both, left)
         for text, name in (("pair[a, user]", "left"), ("pair[user, a]", "right"), ("pair[a, a]", "both"), ("pair[a, b]", "any")):
             self.assertEqual(self.chosen(container, text), name)
 
     def test_patterns_that_are_not_comparable_without_being_ambiguous(self):
-        container = box_of(bind("one", "pair[T, T]"), bind("two", "pair[a, T]"), bind("three", "pair[a, a]"), bind("four", "pair[S, T]"))
+        container = box_of(bind("one", "pair[T, T]"), bind("two", "pair[a, T]"), bind("three", "pair[a, a]"),
+            bind("four", "pair[S, T]"))
         for text, name in (("pair[b, b]", "one"), ("pair[a, b]", "two"), ("pair[a, a]", "three"), ("pair[b, a]", "four")):
             self.assertEqual(self.chosen(container, text), name)
 
@@ -153,7 +157,8 @@ class WrappingTest(unittest.TestCase):
         first = layers_of([wrap("d", "f[T]"), bind("b", "T"), wrap("c", "f[a]")], [wrap("a", "T")])
         second = layers_of([wrap("z", "f[T]")], [wrap("y", "f[T]"), wrap("x", "f[T]#x")], parent=first)
         for container, text, told in (
-            (first, "f[a]", "d c a"), (first, "f[b]", "d a"), (first, "b", "a"), (second, "f[a]", "d c a z y"), (second, "f[b]", "d a z y"),
+            (first, "f[a]", "d c a"), (first, "f[b]", "d a"), (first, "b", "a"), (second, "f[a]", "d c a z y"),
+            (second, "f[b]", "d a z y"),
             (second, "f[b]#x", "x"), (first, "f[b]#x", ""), (second, "a#y", ""), (layers_of(), "a", ""),
         ):
             self.assertEqual(self.wrapped(container, text), told, text)

@@ -43,7 +43,8 @@ class ParentTest(unittest.TestCase):
         first = box_of(A)
         second = Container(LEVELS, (), parent=first)
         third = Container(LEVELS, ((bind("b"),),), parent=second)
-        for container, parent, chain in ((first, None, [first]), (second, first, [first, second]), (third, second, [first, second, third])):
+        for container, parent, chain in ((first, None, [first]), (second, first, [first, second]),
+            (third, second, [first, second, third])):
             self.assertTrue(container.parent is parent)
             self.assertEqual(len(container.chain), len(chain))
             self.assertTrue(isinstance(container.chain, tuple))
@@ -108,7 +109,8 @@ class NamesTest(unittest.TestCase):
         first = box_of(bind("x"), wrap("w", "x"))
         second = layers_of((bind("y"),), parent=first)
         for name in ("x", "w"):
-            self.assertEqual(field_of(self, SameName, Container, LEVELS, ((A,), (bind("b"), bind(name, "c"))), parent=second), (1, 1))
+            self.assertEqual(field_of(self, SameName, Container, LEVELS, ((A,), (bind("b"), bind(name, "c"))), parent=second),
+                (1, 1))
             self.assertEqual(field_of(self, SameName, Container, LEVELS, ((wrap(name, "c"),),), parent=first), (0, 0))
         self.assertEqual(field_of(self, SameName, Container, LEVELS, ((bind("y", "c"),),), parent=second), (0, 0))
         self.assertEqual(len(layers_of((bind("y"),), parent=first).chain), 2)
@@ -131,10 +133,12 @@ class KnownLevelsTest(unittest.TestCase):
 
 class TwiceTest(unittest.TestCase):
     def test_alike_patterns_in_a_layer(self):
-        for one, other in (("a", "a"), ("T", "S"), ("pair[S, T]", "pair[T, S]"), ("f[T]#x", "f[S]#x"), ("g[A, B, A]", "g[B, A, B]")):
+        for one, other in (("a", "a"), ("T", "S"), ("pair[S, T]", "pair[T, S]"), ("f[T]#x", "f[S]#x"),
+            ("g[A, B, A]", "g[B, A, B]")):
             first, second = bind("one", one), bind("two", other)
             self.assertEqual(field_of(self, Twice, Container, LEVELS, ((first, second),)), (0, 1))
-            self.assertEqual(field_of(self, Twice, Container, LEVELS, ((), (first, A if one != "a" else bind("b"), second))), (1, 2))
+            self.assertEqual(field_of(self, Twice, Container, LEVELS, ((), (first, A if one != "a" else bind("b"), second))),
+                (1, 2))
             self.assertEqual(len(layers_of((first,), (second,)).layers), 2)
             self.assertEqual(len(layers_of((second,), parent=layers_of((first,))).chain), 2)
 

@@ -1,11 +1,13 @@
-"""The examples of DOC.md, as they stand there: tests/examples.txt has them, parted by empty lines."""
+"""The examples of DOC.md, as they stand there: tests/examples.txt has them, parted by empty lines. And those of README.md."""
 
 import pathlib
 import unittest
 
 from wirebox import errors
 
-EXAMPLES = pathlib.Path(__file__).with_name("examples.txt").read_text(encoding="ascii").strip().split("\n\n")
+FOLDER = pathlib.Path(__file__).parent
+EXAMPLES = (FOLDER / "examples.txt").read_text(encoding="ascii").strip().split("\n\n")
+README = [line[4:] for line in (FOLDER.parent / "README.md").read_text(encoding="ascii").split("\n") if line.startswith("    ")]
 
 
 def steps_of(example):
@@ -29,15 +31,23 @@ def told_by(code, names):
 
 
 class ExamplesTest(unittest.TestCase):
+    def follow(self, example):
+        names = {}
+        for code, told in steps_of(example):
+            if told is None:
+                exec(code, names)
+            else:
+                self.assertEqual(told_by(code, names), told, code)
+
     def test_examples(self):
         self.assertGreater(len(EXAMPLES), 1)
         for example in EXAMPLES:
-            names = {}
-            for code, told in steps_of(example):
-                if told is None:
-                    exec(code, names)
-                else:
-                    self.assertEqual(told_by(code, names), told, code)
+            self.follow(example)
+
+    def test_readme(self):
+        shown = README[:README.index("bash .ci/run")]
+        self.assertGreater(len(shown), 20)
+        self.follow("\n".join(shown))
 
 
 if __name__ == "__main__":

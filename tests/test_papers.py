@@ -26,8 +26,10 @@ class PaperTest(unittest.TestCase):
             [bind("other", "b")],
         )
         self.assertEqual(told(container, "f[a]"), (
-            ("any", "covered", paper(container, read_key("f[a]"))[0][2]), ("x", "tag", None), ("e", "covered", told(container, "f[a]")[2][2]),
-            ("g", "unlike", None), ("list", "less", "users"), ("users", "chosen", None), ("y", "tag", None), ("other", "unlike", None),
+            ("any", "covered", paper(container, read_key("f[a]"))[0][2]), ("x", "tag", None),
+            ("e", "covered", told(container, "f[a]")[2][2]),
+            ("g", "unlike", None), ("list", "less", "users"), ("users", "chosen", None), ("y", "tag", None),
+            ("other", "unlike", None),
         ))
         self.assertIn(told(container, "f[a]")[0][2], ("list", "users"))
         self.assertEqual(told(container, "f[b]"), (
@@ -45,7 +47,8 @@ class PaperTest(unittest.TestCase):
 
     def test_covered_comes_ahead_of_less(self):
         container = layers_of([bind("one", "T"), bind("two", "a")], [bind("three", "S")])
-        self.assertEqual(told(container, "a"), (("one", "covered", "three"), ("two", "covered", "three"), ("three", "chosen", None)))
+        self.assertEqual(told(container, "a"), (("one", "covered", "three"), ("two", "covered", "three"),
+            ("three", "chosen", None)))
         self.assertEqual(told(container, "b"), (("one", "covered", "three"), ("two", "unlike", None), ("three", "chosen", None)))
 
     def test_ambiguous_keys(self):
@@ -58,7 +61,8 @@ class PaperTest(unittest.TestCase):
         self.assertEqual((found[1], found[3]), (("left", "equal", None), ("right", "equal", None)))
         self.assertEqual(found[2][:2], ("all", "less"))
         self.assertIn(found[2][2], ("left", "right"))
-        self.assertEqual(told(container, "p[user, a]")[1:], (("left", "unlike", None), ("all", "less", "right"), ("right", "chosen", None)))
+        self.assertEqual(told(container, "p[user, a]")[1:], (("left", "unlike", None), ("all", "less", "right"),
+            ("right", "chosen", None)))
 
     def test_rows_of_parents_only_while_no_binding_is_for_the_key(self):
         first = layers_of([bind("a"), bind("any", "T")], [bind("x", "T#x")])
@@ -67,7 +71,8 @@ class PaperTest(unittest.TestCase):
         self.assertEqual(told(third, "d"), (("d", "chosen", None),))
         self.assertEqual(told(third, "c"), (("d", "unlike", None), ("b", "unlike", None), ("c", "chosen", None)))
         self.assertEqual(told(third, "a"), (
-            ("d", "unlike", None), ("b", "unlike", None), ("c", "unlike", None), ("a", "chosen", None), ("any", "less", "a"), ("x", "tag", None),
+            ("d", "unlike", None), ("b", "unlike", None), ("c", "unlike", None), ("a", "chosen", None), ("any", "less", "a"),
+            ("x", "tag", None),
         ))
         self.assertEqual(told(third, "a#y"), tuple((name, "tag", None) for name in ("d", "b", "c", "a", "any", "x")))
         self.assertEqual(told(second, "b"), (("b", "chosen", None), ("c", "unlike", None)))
@@ -118,7 +123,8 @@ class IsPaperTest(unittest.TestCase):
         )
         key = "p[a, a]"
         for one, other in itertools.product(("b1", "b2", "b3", "a1", "d", None, "x"), ("b1", "b2", "b3", "a1", None)):
-            value = (("a1", "covered", one), ("b1", "less", other), ("b2", "equal", None), ("b3", "equal", None), ("d", "tag", None))
+            value = (("a1", "covered", one), ("b1", "less", other), ("b2", "equal", None), ("b3", "equal", None),
+                ("d", "tag", None))
             self.assertIs(self.is_so(container, key, value), one in ("b1", "b2", "b3") and other in ("b2", "b3"))
 
     def test_other_values(self):
@@ -126,11 +132,13 @@ class IsPaperTest(unittest.TestCase):
         right = (("one", "less", "two"), ("two", "chosen", None))
         self.assertIs(self.is_so(container, "a", right), True)
         wrong = (
-            right[:1], right[1:], right + right[1:], right[::-1], (right[0], right[0]), (right[1], right[1]), list(right), [], (), right[0],
+            right[:1], right[1:], right + right[1:], right[::-1], (right[0], right[0]), (right[1], right[1]), list(right), [], (),
+            right[0],
             (list(right[0]), right[1]), (right[0], list(right[1])), (right[0], right[1][:2]), (right[0], right[1] + (None,)),
             (right[0], ("two", "chosen", "")), (right[0], ("two", "chosen", "one")), (right[0], ("two", "chosen", False)),
             (("one", "less", None), right[1]), (("one", "less", "one"), right[1]), (("one", "less", ("two",)), right[1]),
-            (("one", "covered", "two"), right[1]), ((None, "less", "two"), right[1]), (("one", None, "two"), right[1]),
+            (("one", "covered", "two"), right[1]), (("two", "less", "two"), right[1]), (right[0], ("x", "chosen", None)),
+            ((None, "less", "two"), right[1]), (("one", None, "two"), right[1]),
             (("one", "less", Hostile()), right[1]), ((Hostile(), "less", "two"), right[1]), (("one", Hostile(), "two"), right[1]),
             (right[0], ("two", "chosen", Hostile())), (Hostile(), right[1]), (right[0], None), "ab", {"one": 1, "two": 2}, b"ab",
             (("one", "less", b"two"), right[1]), ((b"one", "less", "two"), right[1]),

@@ -16,9 +16,11 @@ LEVELS = ("app", "session", "request")
 class World:
     """Makes containers; each of the settings tells how often something is so, of 100 times."""
 
-    def __init__(self, seed, *, opened=40, levels=40, failing=0, ends=50, wants=3, faults=10):
+    def __init__(self, seed, *, opened=40, levels=40, failing=0, ends=50, wants=3, faults=10, floor=0):
         self.random = random.Random(seed)
-        self.settings = {"opened": opened, "levels": levels, "failing": failing, "ends": ends, "wants": wants, "faults": faults}
+        self.settings = {
+            "opened": opened, "levels": levels, "failing": failing, "ends": ends, "wants": wants, "faults": faults, "floor": floor,
+        }
         self.made = 0
 
     def is_so(self, name):
@@ -38,11 +40,15 @@ class World:
             text = self.random.choice(("T", "f[T]", "p[a, T]", "f[f[T]]")).replace("T", letters[0])
         return (form, *aim(text))
 
-    def part(self, kind):
+    def part(self, kind, place=None):
         self.made += 1
-        place = self.random.randrange(len(GROUND) - 1)
-        pattern, tag = aim(self.random.choice(OPEN) if self.is_so("opened") else GROUND[place])
-        wants = tuple(self.wish(pattern, GROUND[place + 1:]) for _ in range(self.random.randrange(self.settings["wants"] + 1)))
+        if place is None:
+            place = self.random.randrange(len(GROUND) - 1)
+            pattern, tag = aim(self.random.choice(OPEN) if self.is_so("opened") else GROUND[place])
+        else:
+            pattern, tag = aim(GROUND[place])
+        below = GROUND[place + 1:]
+        wants = tuple(self.wish(pattern, below) for _ in range(self.random.randrange(self.settings["wants"] + 1)) if below)
         settings = {"tag": tag, "wants": wants, "has_end": self.is_so("ends")}
         if self.is_so("failing"):
             settings["failing"] = tuple(sorted(self.random.sample(range(1, 6), self.random.randrange(1, 3))))
@@ -68,7 +74,12 @@ class World:
         depth = depth or self.random.choice((1, 1, 2, 3))
         found = None
         for _ in range(depth):
-            layers = tuple(self.layer(self.random.randrange(7), self.random.randrange(3)) for _ in range(self.random.randrange(1, 4)))
+            layers = tuple(self.layer(self.random.randrange(7), self.random.randrange(3)) for _ in range(self.random.randrange(1,
+                4)))
+            if found is None:
+                # The floor has bindings for many keys, so that less is missing.
+                floor = tuple(self.part(Binding, place) for place in range(len(GROUND)) if self.is_so("floor"))
+                layers = (floor, *layers[:2])
             found = Container(LEVELS, layers, parent=found)
         return found
 
