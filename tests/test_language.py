@@ -200,7 +200,8 @@ class LanguageTest(unittest.TestCase):
                     self.assertIsInstance(node.exc, ast.Call, (path, node.lineno))
                     self.assertRegex(node.exc.func.id, r"\A[A-Z]")
                 elif isinstance(node, ast.ExceptHandler):
-                    self.assertNotIn(node.type.id, ("Exception", "ValueError", "LookupError", "IndexError"), (path, node.lineno))
+                    for caught in getattr(node.type, "elts", [node.type]):
+                        self.assertNotIn(caught.id, ("Exception", "ValueError", "LookupError", "IndexError"), (path, node.lineno))
 
     def test_beside_classes_that_compare(self):
         for path in FILES:
@@ -231,7 +232,7 @@ class LanguageTest(unittest.TestCase):
             self.assertNotIn(name, METHODS, place)
         for name, place in assigned.items():
             self.assertNotIn(name, methods, place)
-        known = [*assigned, *methods, *properties, *METHODS]
+        known = [*assigned, *methods, *properties, *METHODS, "__name__"]
         for name, place in read.items():
             self.assertIn(name, known, place)
 

@@ -10,7 +10,6 @@ from wirebox.walking import Walk
 from wirebox.words import is_integer, is_word
 
 MOST_SCOPES = 100
-MOST_COUNTED = 500
 MOST_THINGS = 2000
 
 
@@ -130,10 +129,7 @@ class Box:
     def _give(self, home, scope, key, row):
         """The number of the thing that a key gives that is asked in a container; the row tells of the asking."""
         walk = Walk(self._finder)
-        walk.resolve(home, key, self._state.depths[scope])
-        total = walk.total()
-        if total > MOST_COUNTED:
-            raise TooMany(MOST_COUNTED)
+        total = walk.resolve_counted(home, key, self._state.depths[scope])
         if len(self._state.things) + total > MOST_THINGS:
             raise TooMany(MOST_THINGS)
         self._state.rows.append(row)

@@ -61,13 +61,13 @@ def is_node(container, value):
 
 
 def steps_of(links):
-    """What resolving goes through for these links: rows of a word, a key, and a node or what a fault tells."""
+    """What resolving goes through: rows of a word, a key, a node or what a fault tells, and the mark of a node."""
     steps = []
     for word, key, told in links:
         if word in FAULTS:
-            steps.append((word, key, told))
+            steps.append((word, key, told, None))
         else:
-            steps.extend([(word, key, node) for node in told])
+            steps.extend([(word, key, node, mark_of(node)) for node in told])
     return steps
 
 
@@ -78,6 +78,8 @@ class Finder:
         self.top = top
         self.found = {}
         self.links = {}
+        self.steps = {}
+        self.depths = {}
 
     def link(self, form, home, key):
         """What a want comes to whose key, None if it is too deep, is asked in a container of the chain."""
@@ -122,7 +124,26 @@ class Finder:
             links.append(self.link(form, home, asked))
         return tuple(links)
 
+    def steps_from(self, node, mark):
+        """What resolving goes through behind a node with this mark."""
+        if mark not in self.steps:
+            self.steps[mark] = steps_of(self.links_of(node))
+        return self.steps[mark]
+
     def depth_of(self, node):
         """The number, from 0, of the level of a node, or None."""
-        level = self.top.part(node[0]).level
-        return None if level is None else self.top.levels.index(level)
+        name = node[0]
+        if name not in self.depths:
+            level = self.top.part(name).level
+            self.depths[name] = None if level is None else self.top.levels.index(level)
+        return self.depths[name]
+
+    def led_by(self, node):
+        """For each want of a node, in order, the tuple of the nodes to which it leads, lazy ones too."""
+        home = self.top.home(maker_of(node))
+        found = []
+        for word, key, told in self.links_of(node):
+            if word == "lazy" and key is not None:
+                word, key, told = self.link("plain", home, key)
+            found.append(() if word in FAULTS else told)
+        return found

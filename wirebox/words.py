@@ -12,6 +12,11 @@ def is_integer(value):
     return isinstance(value, int) and not isinstance(value, bool)
 
 
+def is_count(value):
+    """Whether a value is an integer from 1 on."""
+    return is_integer(value) and value > 0
+
+
 def is_word(value):
     """Whether a value is a string of 1 to 12 letters a to z, digits and _, a letter first."""
     if not isinstance(value, str) or len(value) == 0 or len(value) > MOST_SIGNS:
