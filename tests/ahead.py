@@ -197,3 +197,31 @@ def fewest(top, rings):
             if all(set(row) & breaking for breaking in rows):
                 return row
     return None
+
+
+def slow_form(top, roots):
+    """The normal form, and the holdings, with lives found by going on as long as there is something to do."""
+    nodes = all_nodes(top, roots)
+    number = {node: at for at, node in enumerate(nodes)}
+    starts = tuple(number[answer("plain", top, key)[0]] for key, _ in roots)
+    rows, held, free = [], [0] * len(nodes), [at in starts for at in range(len(nodes))]
+    for node in nodes:
+        wants = []
+        for form, found in given(top, node):
+            numbers = tuple(number[each] for each in found)
+            word = form if form in ("lazy", "all") else "one" if numbers else "none"
+            wants.append((word, numbers))
+            for each in numbers:
+                free[each] = free[each] or form == "lazy"
+                held[each] += form != "lazy"
+        rows.append(tuple(wants))
+    lives = [top.part(node[0]).level for node in nodes]
+    while True:
+        found = [(at, other) for at in range(len(nodes)) for other in range(len(nodes))
+                 if lives[at] is None and not free[at] and held[at] == 1 and lives[other] is not None
+                 and any(word != "lazy" and at in numbers for word, numbers in rows[other])]
+        if not found:
+            break
+        lives[found[-1][0]] = lives[found[-1][1]]
+    told = tuple((node, top.part(maker(node)).has_end, lives[at], rows[at]) for at, node in enumerate(nodes))
+    return (starts, told), tuple(zip(held, free))

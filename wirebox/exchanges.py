@@ -53,6 +53,14 @@ def comes_otherwise(one, other, node):
     return difference_of(Finder(one), Finder(other), node) is not None
 
 
+def living_things(box):
+    """The ascending numbers of the living things of a box."""
+    numbers = []
+    for scope in box.scopes:
+        numbers.extend(box.things_in(scope))
+    return sorted(numbers)
+
+
 class Exchange:
     """What an exchange of the container of a box will do to its living things."""
 
@@ -61,10 +69,7 @@ class Exchange:
         self.before = Finder(box.container)
         self.after = Finder(container)
         self.reasons = {}
-        self.numbers = []
-        for scope in box.scopes:
-            self.numbers.extend(box.things_in(scope))
-        self.numbers = sorted(self.numbers)
+        self.numbers = living_things(box)
 
     def reason(self, number):
         """Why the node of a thing comes otherwise, or None."""

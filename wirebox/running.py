@@ -4,7 +4,7 @@ A step is ("ask", key, depth), or ("use", node, place, depth) for the handle of 
 are told by their numbers, as depths.
 """
 
-from wirebox.finding import maker_of
+from wirebox.finding import maker_of, mark_of
 from wirebox.making import Maker
 from wirebox.states import State
 
@@ -17,6 +17,9 @@ class Run:
         self.state = State()
         self.scopes_by_depth = [1]
         self.commands = []
+        # By mark of a node and scope, the first thing of this node that lives there.
+        self.first_things = {}
+        self.seen = 0
 
     def descend(self, depth):
         """Enter scopes as far as to this depth."""
@@ -25,16 +28,18 @@ class Run:
             self.commands.append(("enter", above))
             self.scopes_by_depth.append(self.state.enter(above))
 
-    def turn(self, depth):
-        """Leave the scopes from this depth on, so that others are entered in their place."""
-        self.scopes_by_depth = self.scopes_by_depth[:depth]
+    def note_things(self):
+        """Note where the things live that were made since the last time."""
+        for number in range(self.seen + 1, len(self.state.things) + 1):
+            node, scope, _ = self.state.things[number]
+            self.first_things.setdefault((mark_of(node), scope), number)
+        self.seen = len(self.state.things)
 
     def handle(self, node, place, scope):
         """The least handle of the want at a place of a node in a thing that lives in a scope."""
-        for made, living_in, holds in self.state.things.values():
-            if living_in == scope and made == node:
-                return holds[place][1]
-        return None
+        self.note_things()
+        number = self.first_things[(mark_of(node), scope)]
+        return self.state.things[number][2][place][1]
 
     def tell(self, step):
         """Note the commands of a step."""
