@@ -156,8 +156,9 @@ def least_cause(box, other, number):
         node = box.thing(thing)[0]
         nodes[mark_of(node)] = node
     causes = Causes(box.container, other, names, list(nodes.values()))
-    for many in range(len(names) + 1):
-        for chosen in combinations(names, many):
+    listed = list(names)
+    for many in range(len(listed) + 1):
+        for chosen in combinations(listed, many):
             if causes.is_cause(chosen):
                 return chosen
     return None

@@ -1,7 +1,7 @@
 """Which bindings and wrappers a container has for a key."""
 
 from wirebox.bindings import Binding, Wrapper, suits
-from wirebox.containers import aim_text, need_container
+from wirebox.containers import need_container
 from wirebox.errors import Ambiguous
 from wirebox.patterns import fits
 from wirebox.terms import need_key
@@ -39,12 +39,15 @@ def names_of(bindings):
 
 def gathered(container, key):
     """The bindings of the chain that are for a key and are not replaced."""
-    suited = []
+    latest = {}
     for home in container.chain:
         for layer in home.layers:
-            suited.extend(bindings_for(layer, key))
-    latest = {aim_text(binding): binding.name for binding in suited}
-    return tuple([binding for binding in suited if latest[aim_text(binding)] == binding.name])
+            for binding in bindings_for(layer, key):
+                aim = container.aim(binding.name)
+                # What is put in once more stands at the end.
+                latest.pop(aim, None)
+                latest[aim] = binding
+    return tuple(latest.values())
 
 
 def wrappers_for(container, key):

@@ -73,15 +73,18 @@ def aim_text(binding):
     return tagged_text(named_by_places(binding.pattern, VARIABLES), binding.tag)
 
 
-def check_aims(layers):
-    """Refuse a binding with the tag and an alike pattern of one before it in its layer."""
+def aims_of(layers):
+    """By name, the texts that bindings have in common with alike ones; refused if two of one layer have it."""
+    found = {}
     noted = {}
     for path, part in placed_parts(layers):
         if isinstance(part, Binding):
-            aim = (path[0], aim_text(part))
+            found[part.name] = aim_text(part)
+            aim = (path[0], found[part.name])
             if aim in noted:
                 raise Twice(path)
             noted[aim] = True
+    return found
 
 
 class Container:
@@ -100,7 +103,11 @@ class Container:
             self._own(container)
         check_names(layers, list(self._owned))
         check_known_levels(layers, levels)
-        check_aims(layers)
+        # Working these texts out takes long beside looking for parts, so they are kept.
+        self._aims = aims_of(layers)
+        if parent is not None:
+            for name, aim in parent.aims().items():
+                self._aims[name] = aim
         self._own(self)
         if len(self._owned) > MOST_PARTS:
             raise TooLarge(len(self._owned))
@@ -131,6 +138,14 @@ class Container:
         if self._parent is None:
             return (self,)
         return self._parent.chain + (self,)
+
+    def aims(self):
+        """By name, for all bindings of the chain, the texts that they have in common with alike ones with their tag."""
+        return dict(self._aims)
+
+    def aim(self, name):
+        """The text that the binding with this name has in common with alike ones with its tag."""
+        return self._aims[name]
 
     def part(self, name):
         """The part of the chain with this name."""

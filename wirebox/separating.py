@@ -95,8 +95,8 @@ class Guide:
         if [word for word, _ in wants] != [word for word, _ in other_wants]:
             self.add_reaching(number)
             return
-        for place, ((word, numbers), (_, others)) in enumerate(zip(wants, other_wants)):
-            if self.marks_at(self.form, numbers) != self.marks_at(self.other, others):
+        for place, (word, numbers) in enumerate(wants):
+            if self.marks_at(self.form, numbers) != self.marks_at(self.other, other_wants[place][1]):
                 if word == "lazy":
                     self.add_using(number, place)
                 else:
