@@ -198,6 +198,8 @@ class CheckTest(unittest.TestCase):
         self.assertEqual(field_of(self, TooMany, check, container, roots(f"{number_text(728 - 300)} app")), 300)
         self.assertEqual(field_of(self, TooMany, check, container, roots(f"{first} app; a app")), 300)
         self.assertIsNone(check(container, roots(f"{first} app; {first} app; {number_text(500)} app")))
+        # One that was looked at before is none more.
+        self.assertIsNone(check(box_of(*self.lines(f"lazy {first}", f"lazy {number_text(500)}")), roots(f"{first} app")))
         for want, word, told in (("z", "Missing", (K("z"),)), ("far", "Captive", (K("far"),))):
             container = box_of(*self.lines(f"lazy {want}"), bind("far", level="request"))
             found = check(container, roots(f"{number_text(728 - 298)} app"))

@@ -309,7 +309,7 @@ class LazyTest(unittest.TestCase):
             if not isinstance(value, tuple):
                 self.assertIsNone(field_of(self, BadChange, made_lazy, container, value))
         for value in OTHER_KINDS + (
-            good, ("a", 1), ("a", 2), ("a", 3), ("a", 4), ("a", -4), ("a", -1), ("w", 0), ("w", 2), ("w", 3), ("b", 0), ("z", 0), ("", 0),
+            good, ("a", 1), ("a", 2), ("a", 3), ("a", 4), ("a", -4), ("a", -1), ("p", -1), ("w", 0), ("w", 2), ("w", 3), ("b", 0), ("z", 0), ("", 0),
             ("a", True), ("a", False), ("a", 0.0), ("a", None), ("a", "0"), ["a", 0], ("a", 0, 0), ("a",), (0, "a"), ("A", 0), (Hostile(), 0),
             ("a", Hostile()), (None, 0), (["a"], 0), ("abcdefghijklm", 0), ("a", 10 ** 900),
         ):

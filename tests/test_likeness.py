@@ -13,10 +13,14 @@ from tests.values import OTHER_KINDS, Hostile
 from wirebox.checking import check
 from wirebox.containers import Container
 from wirebox.errors import BadContainer, BadRoots, BoxError, TooMany, Troubled, Unchecked, WireError
+from wirebox.finding import Finder
 from wirebox.forms import normal_form
 from wirebox.likeness import alike, separates
+from wirebox.nodes import count_of
+from wirebox.reaching import Chart
 from wirebox.rebuilding import container_with
-from wirebox.rows import are_commands
+from wirebox.rows import are_commands, play
+from wirebox.running import Run
 from wirebox.terms import read_key
 
 K = read_key
@@ -246,8 +250,60 @@ class AlikeTest(unittest.TestCase):
                           bind("light", "light", "lazy l1"), bind("l1", "l1", "lazy l2"), bind("l2", "l2", "lazy l3"), bind("l3", "l3", "lazy l4"),
                           bind("l4", "l4", "lazy l5"), bind("l5", "l5", "lazy n"), bind("n", level=level))
 
-        self.differ(container(None), container("app"), roots("heavy app; light app"))
-        self.differ(container("app"), container("request"), roots("heavy request; light request"))
+        for text in ("heavy {0}; light {0}", "light {0}; heavy {0}"):
+            self.differ(container(None), container("app"), roots(text.format("app")))
+            self.differ(container("app"), container("request"), roots(text.format("request")))
+            self.differ(container(None), container("request"), roots(text.format("request")))
+
+    def chain(self, name, steps, *wants):
+        """Bindings of which each leads to the next one by a handle, the last one to n; each has these wants."""
+        return [bind(f"{name}{at}", f"{name}{at}", f"lazy {name}{at + 1}" if at + 1 < steps else "lazy n", *wants) for at in range(steps)]
+
+    def test_things_that_are_kept_on_the_way(self):
+        # By their counts there are more things on the second way, but most of them are made once.
+        rest = (
+            *self.chain("x", 5, "plain more", "plain more"), *self.chain("y", 5, "plain pool"), bind("pool", "pool", "plain sum", level="app"),
+            *summing(440), bind("leaf"), bind("more", "more", *["plain half"] * 5), bind("half", "half", *["plain tenth"] * 6),
+            bind("tenth", "tenth", *["plain leaf"] * 6),
+        )
+        self.assertEqual([count_of(box_of(*rest), K(text)) for text in ("x0", "y0")], [433, 442])
+        for text in ("x0 app; y0 app", "y0 app; x0 app"):
+            for levels in ((None, "app"), ("app", None)):
+                one, other = [box_of(*rest, bind("n", level=level)) for level in levels]
+                self.differ(one, other, roots(text))
+
+    def test_another_difference_fits_where_one_does_not(self):
+        # What shows the one with fewer things takes too many of them in the other box.
+        rest = (
+            *self.chain("x", 4, "plain sum"), *self.chain("z", 3, "plain sum"), bind("last", "z3", "lazy m", "plain sum"), *summing(450), bind("leaf"),
+            bind("fifty", "fifty", *["plain five"] * 5), bind("five", "five", *["plain leaf"] * 6), bind("wide", "wide", *["plain fifty"] * 5),
+        )
+        rest = tuple(bind("z2", "z2", "lazy z3", "plain sum") if part.name == "z2" else part for part in rest)
+        one = box_of(*rest, bind("n", "n", *["plain fifty"] * 3), bind("m", "m", *["plain fifty"] * 4))
+        other = box_of(*rest, bind("n", "n", *["plain fifty"] * 3, "plain wide"), bind("m", "m", *["plain fifty"] * 4, has_end=True))
+        for first, second in ((one, other), (other, one)):
+            self.differ(first, second, roots("x0 app; z0 app"))
+
+    def test_the_ways_on_which_few_things_are_made(self):
+        many = 0
+        for seed in range(300):
+            pair = Pairs(seed, levels=(10, 40)[seed % 2], wants=5)
+            asked = tuple((key, "request") for key, _ in pair.roots)
+            if check(pair.one, asked) is not None:
+                continue
+            chart = Chart(Finder(pair.one), asked)
+            costs = [stop.cost for stop in chart.stops]
+            self.assertEqual(costs, sorted(costs))
+            many += len(costs) > 3
+            for stop in chart.stops:
+                run = Run(chart.finder)
+                for step in stop.asking.steps_so_far():
+                    run.take(step)
+                self.assertEqual(len(run.state.things), stop.cost)
+                self.assertIsNone(play(pair.one, tuple(run.commands))[1])
+            first = {mark: min(stop.cost for stop in chart.stops if mark in stop.walk.reached) for mark in chart.first_reaching}
+            self.assertEqual({mark: stop.cost for mark, stop in chart.first_reaching.items()}, first)
+        self.assertGreater(many, 30)
 
     def test_things_that_are_asked_twice(self):
         for count in (400, 500):
@@ -277,11 +333,16 @@ class SeparatesTest(unittest.TestCase):
             ((ask, ("close", 1), use, use), False), ((ask, use, use, ("ask", 1, K("b"))), False), ((ask, use, use, ("ask", 1, K("c"))), False),
             ((enter, ask, use, use, ("ask", 2, K("c"))), True), ((enter, ask, use, use, ("ask", 3, K("c"))), False),
             ((ask, use, use, ("close", 2)), False), ((enter, enter, ask, use, use, ("close", 3), ("close", 2)), True),
+            ((enter, enter, ask, use, use, ("ask", 3, K("c")), ("ask", 2, K("c"))), True), ((enter, enter, ask, use, use, ("ask", 4, K("c"))), False),
             ((enter, ask, use, use, ("close", 2), ("enter", 2)), False), ((enter, ask, use, use, ("enter", 2)), False),
         ):
             self.assertIs(separates(one, other, asked, row), told, row)
             self.assertIs(separates(other, one, asked, row), told, row)
             self.assertIs(separates(value=row, roots=asked, other=one, one=one), False)
+        one, other = [box_of(bind("a", level=level), levels="app session request") for level in (None, "app")]
+        for scope, told in ((1, False), (2, False), (3, False), (4, True), (5, False)):
+            row = (enter, enter, ("enter", 2), ("ask", scope, K("a")))
+            self.assertIs(separates(one, other, roots("a request"), row), told)
 
     def test_rows_that_one_box_alone_can_do(self):
         one, other = box_of(bind("a", "a", "lazy b"), bind("b")), box_of(bind("a"), bind("b"))
@@ -314,6 +375,13 @@ class SeparatesTest(unittest.TestCase):
         row = (("ask", 1, K("a")),) + (("use", 1),) * 3
         self.assertIs(separates(less, more, roots("a app"), row), True)
         self.assertIs(separates(less, more, roots("a app"), row + (("use", 1),)), False)
+        less, more = [box_of(bind("a", "a", "plain sum", *wants), *summing(498), bind("b"), bind("leaf"), bind("full", "full", "plain sum", "plain b"))
+                      for wants in ((), ("plain b",))]
+        asked = roots("full app; a app; b app")
+        row = (("ask", 1, K("full")),) * 3 + (("ask", 1, K("a")),)
+        for first, second in ((less, more), (more, less)):
+            self.assertIs(separates(first, second, asked, row), True)
+            self.assertIs(separates(first, second, asked, row + (("ask", 1, K("b")),)), False)
 
     def test_values_of_every_kind(self):
         one, other = box_of(bind("a")), box_of(bind("a", level="app"))

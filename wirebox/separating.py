@@ -11,7 +11,7 @@ from wirebox.rows import fault_at
 from wirebox.running import Run
 
 MOST_SOURCES = 12
-MOST_PLANS = 500
+MOST_PLANS = 200
 
 
 def steps_to(stop):
